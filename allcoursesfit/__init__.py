@@ -1,0 +1,1 @@
+"""Allcoursesfit: all courses that late, cut and wrong readings leave."""

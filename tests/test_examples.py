@@ -1,0 +1,25 @@
+"""The examples that the document gives, as they stand there."""
+
+import doctest
+import os
+import unittest
+
+
+class Examples(unittest.TestCase):
+    def examples_hold(self, name, many):
+        path = os.path.join(os.path.dirname(os.path.abspath(__file__)), name)
+        told = doctest.testfile(path, module_relative=False)
+        self.assertEqual((told.failed, told.attempted), (0, many))
+
+    def test_section_4(self):
+        self.examples_hold("section_4.txt", 6)
+
+    def test_section_5(self):
+        self.examples_hold("section_5.txt", 12)
+
+    def test_readme(self):
+        self.examples_hold(os.path.join(os.pardir, "README.md"), 9)
+
+
+if __name__ == "__main__":
+    unittest.main()
