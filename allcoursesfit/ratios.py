@@ -36,6 +36,11 @@ def plus(one, other):
     return reduced(one[0] * other[1] + other[0] * one[1], one[1] * other[1])
 
 
+def minus(one, other):
+    """The FRACTION one less other."""
+    return reduced(one[0] * other[1] - other[0] * one[1], one[1] * other[1])
+
+
 def times(one, other):
     """The FRACTION one times other."""
     return reduced(one[0] * other[0], one[1] * other[1])
@@ -44,6 +49,13 @@ def times(one, other):
 def is_below(one, other):
     """Whether the number one is less than the number other."""
     return one[0] * other[1] < other[0] * one[1]
+
+
+def is_between(number, low, high):
+    """Whether a FRACTION is the integer low or more, and high or less; None is no bound."""
+    if low is not None and number[0] < low * number[1]:
+        return False
+    return high is None or number[0] <= high * number[1]
 
 
 def whole_text(number):

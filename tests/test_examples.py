@@ -17,8 +17,17 @@ class Examples(unittest.TestCase):
     def test_section_5(self):
         self.examples_hold("section_5.txt", 12)
 
+    def test_section_6(self):
+        self.examples_hold("section_6.txt", 13)
+
+    def test_section_7(self):
+        self.examples_hold("section_7.txt", 13)
+
+    def test_section_8(self):
+        self.examples_hold("section_8.txt", 11)
+
     def test_readme(self):
-        self.examples_hold(os.path.join(os.pardir, "README.md"), 9)
+        self.examples_hold(os.path.join(os.pardir, "README.md"), 15)
 
 
 if __name__ == "__main__":

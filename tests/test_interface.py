@@ -4,9 +4,13 @@ import importlib
 import inspect
 import unittest
 
+from allcoursesfit.books import is_motion, is_world
+from allcoursesfit.motions import ahead, behind, between, joined, motion_text, pushes, read_motion, start
 from allcoursesfit.points import ascending, form, halfway, point_text, read_point
+from allcoursesfit.readings import fulfils, read_reading, reading_text, sources
 from allcoursesfit.shapes import (area, both, clipped, ends, hull, read_shape, shape_text, sheared, stretched, where)
 from tests.wrong import SOME, SQUARE, points
+from tests.wrong_books import EXACT, FLAT, RULE, SLOW, TWO
 
 PARAMETERS = {
     "allcoursesfit.points": {
@@ -16,7 +20,20 @@ PARAMETERS = {
         "area": "shape", "both": "one other", "clipped": "shape p q low high", "ends": "shape p q", "hull": "points",
         "read_shape": "text", "shape_text": "shape", "sheared": "shape by", "stretched": "shape low high",
         "where": "shape point"},
+    "allcoursesfit.motions": {
+        "ahead": "rule shape", "behind": "rule shape", "between": "rules one other part", "joined": "rules one other",
+        "motion_text": "rules motion", "pushes": "rules motion", "read_motion": "rules text", "start": "rule"},
+    "allcoursesfit.readings": {
+        "fulfils": "reading states", "read_reading": "text", "reading_text": "reading", "sources": "readings"},
+    "allcoursesfit.books": {
+        "is_motion": "book value", "is_world": "book value", "more": "book reading", "read_book": "text",
+        "without": "book number"},
+    "allcoursesfit.lots": {
+        "choices": "book", "fits": "book tick", "has": "book tick state", "is_empty": "book",
+        "lot": "book choice axis tick", "on_from": "book choice axis tick", "up_to": "book choice axis tick"},
 }
+
+CLASSES = {"allcoursesfit.books": {"Book": "rules last readings wrong"}}
 
 
 class Interface(unittest.TestCase):
@@ -30,6 +47,30 @@ class Interface(unittest.TestCase):
                 self.assertEqual([one.name for one in told], words.split(), name)
                 self.assertEqual({one.kind for one in told}, {inspect.Parameter.POSITIONAL_OR_KEYWORD}, name)
                 self.assertEqual({one.default for one in told}, {inspect.Parameter.empty}, name)
+
+    def test_classes(self):
+        for module, classes in CLASSES.items():
+            for name, words in classes.items():
+                kind = getattr(importlib.import_module(module), name)
+                self.assertTrue(inspect.isclass(kind), name)
+                self.assertEqual((kind.__module__, kind.__name__, kind.__bases__), (module, name, (object,)))
+                self.assertEqual(list(inspect.signature(kind).parameters), words.split())
+
+    def test_motions_and_readings_by_name(self):
+        self.assertEqual(start(rule=FLAT), points((3, 0)))
+        self.assertEqual(ahead(shape=points((4, 1)), rule=RULE), points((5, 0), (5, 2)))
+        self.assertEqual(behind(shape=points((4, 1)), rule=RULE), points((2, 2), (4, 0)))
+        self.assertEqual(between(part=(0, 1), other=SLOW, one=SLOW, rules=(RULE,)), SLOW)
+        self.assertEqual(joined(other=SLOW, one=SLOW[:1], rules=(RULE,)), SLOW)
+        self.assertEqual(pushes(motion=SLOW, rules=(RULE,)), (((1, 1), (0, 1)),))
+        self.assertEqual(read_motion(text="4 0\n4 1\n5 1", rules=(RULE,)), SLOW)
+        self.assertEqual(motion_text(motion=SLOW, rules=(RULE,)), "4 0\n4 1\n5 1")
+        self.assertEqual(read_reading(text="ear 0 1 2 -1 -3..3"), EXACT)
+        self.assertEqual(reading_text(reading=EXACT), "ear 0 1 2 -1 -3..3")
+        self.assertIs(fulfils(states=SLOW, reading=EXACT), False)
+        self.assertEqual(sources(readings=(EXACT,)), ("ear",))
+        self.assertIs(is_motion(value=SLOW, book=TWO), False)
+        self.assertIs(is_world(value=(SLOW, ()), book=TWO), False)
 
     def test_arguments_by_name(self):
         self.assertEqual(point_text(point=SOME), "1/2 -3")
