@@ -1,6 +1,6 @@
 """BOOKS: RULES, LAST, READINGS, and how many of their sources may be wrong; MOTIONS and WORLDS by them."""
 
-from allcoursesfit.errors import BadBook, BadReading, BadReadings, NoBook, NoReading
+from allcoursesfit.errors import BadBook, BadReading, NoBook, NoReading
 from allcoursesfit.headings import heading_lines, read_heading
 from allcoursesfit.limits import is_from_to, need_last, need_rules, need_wrong
 from allcoursesfit.paths import is_path
@@ -69,9 +69,9 @@ def read_book(text):
     heading = len(rules) + 2
     for number, line in enumerate(lines[heading:], start=heading + 1):
         reading = read_line(rules, last, line)
-        if reading is None or not are_readings(readings + (reading,)):
-            raise BadBook(number)
         readings = readings + (reading,)
+        if not are_readings(readings):
+            raise BadBook(number)
     return Book(rules, last, readings, wrong)
 
 
@@ -80,10 +80,7 @@ def more(book, reading):
     need_book(book)
     if not is_reading(reading) or not bears(book.rules, book.last, reading):
         raise BadReading(reading)
-    readings = book.readings + (reading,)
-    if not are_readings(readings):
-        raise BadReadings(readings)
-    return Book(book.rules, book.last, readings, book.wrong)
+    return Book(book.rules, book.last, book.readings + (reading,), book.wrong)
 
 
 def without(book, number):
@@ -101,9 +98,7 @@ def moves_by(book, value):
 
 def are_sources(book, value):
     """Whether any value is an ascending tuple of unlike NAMES of sources of the book."""
-    if not isinstance(value, tuple) or not all([isinstance(name, str) for name in value]):
-        return False
-    return list(value) == [name for name in book.sources if name in value]
+    return isinstance(value, tuple) and list(value) == [name for name in book.sources if name in value]
 
 
 def fits_all_but(book, motion, wrong):

@@ -1,6 +1,6 @@
 """RULES, LAST, ticks and STATES: what they are."""
 
-from allcoursesfit.errors import BadLast, BadRule, BadRules, BadTick, BadWrong
+from allcoursesfit.errors import BadAxis, BadLast, BadRule, BadRules, BadState, BadTick, BadWrong
 from allcoursesfit.points import is_point
 from allcoursesfit.ratios import is_whole
 
@@ -51,6 +51,18 @@ def need_tick(value, last):
         raise BadTick(value)
 
 
+def need_axis(value, many):
+    """Raises BadAxis unless value is the number of one of so many axes."""
+    if not is_from_to(value, 0, many - 1):
+        raise BadAxis(value)
+
+
 def is_state(value, many):
     """Whether any value is a STATE of so many axes."""
     return isinstance(value, tuple) and len(value) == many and all([is_point(point) for point in value])
+
+
+def need_state(value, many):
+    """Raises BadState unless value is a STATE of so many axes."""
+    if not is_state(value, many):
+        raise BadState(value)

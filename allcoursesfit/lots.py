@@ -1,8 +1,8 @@
 """Lots: all STATES that a body can have had at a tick, by all that was read, as a union of products of SHAPES."""
 
 from allcoursesfit.books import are_sources, need_book
-from allcoursesfit.errors import BadAxis, BadChoice, BadState
-from allcoursesfit.limits import is_from_to, is_state, need_tick
+from allcoursesfit.errors import BadChoice
+from allcoursesfit.limits import is_from_to, need_axis, need_state, need_tick
 from allcoursesfit.planes import place_in
 from allcoursesfit.steps import Steps, as_cuts
 
@@ -70,8 +70,7 @@ def need_choice(book, choice, axis, tick):
     need_book(book)
     if not is_choice(book, choice):
         raise BadChoice(choice)
-    if not is_from_to(axis, 0, len(book.rules) - 1):
-        raise BadAxis(axis)
+    need_axis(axis, len(book.rules))
     need_tick(tick, book.last)
 
 
@@ -141,8 +140,7 @@ def has(book, tick, state):
     """Whether some WORLD has this STATE at this tick."""
     need_book(book)
     need_tick(tick, book.last)
-    if not is_state(state, len(book.rules)):
-        raise BadState(state)
+    need_state(state, len(book.rules))
     steps = Steps(book.rules)
     for choice in choices_of(book):
         shapes = shapes_at(steps, book, choice, tick)

@@ -46,6 +46,11 @@ def times(one, other):
     return reduced(one[0] * other[0], one[1] * other[1])
 
 
+def quotient(one, other):
+    """The FRACTION one by other, if other is not 0."""
+    return reduced(one[0] * other[1], one[1] * other[0])
+
+
 def is_below(one, other):
     """Whether the number one is less than the number other."""
     return one[0] * other[1] < other[0] * one[1]

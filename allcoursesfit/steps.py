@@ -1,7 +1,7 @@
 """Steps: what MOTIONS can come to, forward and backward, on one axis, if they fulfil *cuts*.
 
-A cut is a tuple (tick, p, q, low, high): at the tick p times the place and q times the speed are low at least and
-high at most; None is no bound.
+A cut is a tuple (tick, p, q, low, high) of integers: at the tick p times the place and q times the speed are low at
+least and high at most; None is no bound.
 """
 
 from allcoursesfit.moves import box, come_from, gone_to
@@ -17,6 +17,12 @@ def cut_rank(told):
 def as_cuts(row):
     """The tuple of the unlike cuts in a list: ever the same one for the same cuts, in whatever sequence."""
     return tuple(sorted(list({told: True for told in row}), key=cut_rank))
+
+
+def mark_cuts(tick, point):
+    """The list of the cuts that leave one POINT alone at a tick."""
+    place, speed = point
+    return [(tick, place[1], 0, place[0], place[0]), (tick, 0, speed[1], speed[0], speed[0])]
 
 
 def cut_sides(told):

@@ -8,7 +8,7 @@ from allcoursesfit.books import Book, is_motion, is_world, more, read_book, with
 from allcoursesfit.errors import BadBook, BadLast, BadReading, BadReadings, BadRules, BadWrong, NoBook, NoReading
 from tests.courses import drawn_motion, strictly_motion, strictly_world, wrong_in
 from tests.model import fraction
-from tests.wrong import NOT_INTEGERS, NOT_TEXTS, OTHERS, SOME, Refusals, nested, points
+from tests.wrong import NOT_INTEGERS, NOT_TEXTS, OTHERS, SOME, Refusals, nested
 from tests.wrong_books import (EXACT, FLAT, NOT_BOOKS, NOT_LAST, NOT_MOTIONS, NOT_NAMES, NOT_READING,
                                NOT_READING_TEXTS, NOT_READINGS, NOT_RULES, NOT_WRONG, ONE, READING, RULE, SIX, SLOW,
                                THREE_UNSURE, TWENTY_FOUR, TWO, exact, run, unsure)
@@ -77,7 +77,8 @@ class Books(Refusals):
         for last, rules, readings, bad in (
                 (3, (RULE,), (EXACT, other), other), (3, (RULE,), (EXACT, other, third, late), other),
                 (3, (RULE, FLAT), (EXACT, other, late), late), (3, (RULE, FLAT), (EXACT, late, third), late),
-                (4, (RULE, FLAT), (late, third), third), (0, (RULE,), (EXACT,), EXACT), (5, (RULE,), (late, later), later),
+                (4, (RULE, FLAT), (late, third), third), (0, (RULE,), (EXACT,), EXACT), (5, (RULE,), (late, later),
+                    later),
                 (3, (RULE, RULE, RULE), (third, other, later), later)):
             for wrong in (0, None, 4):
                 self.refused(BadReading, bad, Book, rules, last, readings, wrong)
@@ -159,16 +160,19 @@ class Texts(Refusals):
 
     def test_bent_heads(self):
         for at, others in (
-                (0, ("rule", "rule ", "rule 0 10 -2 2 -1", "rule 0 10 -2 2 -1 1 1", "rule 0 10 -2 2 -1 1 ", "Rule 0 10 -2 2 -1 1",
+                (0, ("rule", "rule ", "rule 0 10 -2 2 -1", "rule 0 10 -2 2 -1 1 1", "rule 0 10 -2 2 -1 1 ",
+                     "Rule 0 10 -2 2 -1 1",
                      " rule 0 10 -2 2 -1 1", "rule  0 10 -2 2 -1 1", "rule 0 10  -2 2 -1 1", "rule 10 0 -2 2 -1 1",
                      "rule 0 10 2 -2 -1 1", "rule 0 10 -2 2 1 -1", "rule 0 1001 -2 2 -1 1", "rule -1001 1 -2 2 -1 1",
                      "rule 0 10 -2 2 -1 1/2", "rule 00 10 -2 2 -1 1", "rule -0 10 -2 2 -1 1", "rule +0 10 -2 2 -1 1",
                      "rules 0 10 -2 2 -1 1", "rule 0 10 -2 2 -1 x", "rule,0 10 -2 2 -1 1", "0 10 -2 2 -1 1", "last 3",
                      "rule\t0 10 -2 2 -1 1", "rule 0 10 -2 2 -1 None", "rule (0, 10, -2, 2, -1, 1)", "wrong 1")),
-                (1, ("last", "last ", "last 13", "last -1", "last 03", "last +3", "last 3 ", " last 3", "last  3", "last 3 3",
+                (1, ("last", "last ", "last 13", "last -1", "last 03", "last +3", "last 3 ", " last 3", "last  3",
+                     "last 3 3",
                      "Last 3", "last x", "last 3.0", "wrong 1", "rule", "rule 0 10 2 -2 -1 1", "last 3/1", "last None",
                      "last3", "last 1_0", "read ear 0 1 2 -1 -3..3", "last -0")),
-                (2, ("wrong", "wrong ", "wrong 4", "wrong -1", "wrong 01", "wrong +1", "wrong 1 ", " wrong 1", "wrong  1",
+                (2, ("wrong", "wrong ", "wrong 4", "wrong -1", "wrong 01", "wrong +1", "wrong 1 ", " wrong 1",
+                     "wrong  1",
                      "wrong 1 1", "Wrong 1", "wrong x", "last 3", "rule 0 10 -2 2 -1 1", "read ear 0 1 2 -1 -3..3",
                      "wrong -0", "deeds"))):
             for other in others:
@@ -332,9 +336,11 @@ class MotionsAndWorlds(Refusals):
         tiny = (1, 10 ** 9)
         for place, speed, next_place, next_speed, told in (
                 ((0, 1), (1, 1), (1, 1), (2, 1), True), ((0, 1), (1, 1), (1, 1), (2 * 10 ** 9 + 1, 10 ** 9), False),
-                ((-1, 10 ** 9), (1, 1), (999999999, 10 ** 9), (1, 1), False), (tiny, (1, 1), (1000000001, 10 ** 9), (0, 1), True),
+                ((-1, 10 ** 9), (1, 1), (999999999, 10 ** 9), (1, 1), False), (tiny, (1, 1), (1000000001, 10 ** 9), (0,
+                    1), True),
                 (tiny, (1, 1), (1000000001, 10 ** 9), (-1, 10 ** 9), False), (tiny, (1, 1), (1, 1), (1, 1), False),
-                ((9, 1), (1, 1), (10, 1), (1, 1), True), ((9, 1), (1000000001, 10 ** 9), (10000000001, 10 ** 9), (1, 1), False),
+                ((9, 1), (1, 1), (10, 1), (1, 1), True), ((9, 1), (1000000001, 10 ** 9), (10000000001, 10 ** 9), (1,
+                    1), False),
                 ((9, 1), tiny, (9000000001, 10 ** 9), (1000000001, 10 ** 9), True),
                 ((9, 1), tiny, (9000000001, 10 ** 9), (1000000002, 10 ** 9), False)):
             self.assertIs(is_motion(book, (((place, speed),), ((next_place, next_speed),))), told)
@@ -345,7 +351,8 @@ class MotionsAndWorlds(Refusals):
             names = book.sources + ("e", "zz")
             wrong = wrong_in(book.readings, motion)
             tries = [one for many in range(4) for one in itertools.permutations(names, many)]
-            tries = R.sample(tries, min(len(tries), 25)) + [wrong, wrong[::-1], wrong + wrong, list(wrong), wrong + ("a",),
+            tries = R.sample(tries, min(len(tries), 25)) + [wrong, wrong[::-1], wrong + wrong, list(wrong),
+                                                            wrong + ("a",),
                                                             ("a",) + wrong, wrong[1:], wrong[:-1], set(wrong), None]
             tries = tries + list(itertools.combinations(book.sources, book.wrong)) + [book.sources[:book.wrong + 1]]
             for sources in tries:

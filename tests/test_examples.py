@@ -26,8 +26,14 @@ class Examples(unittest.TestCase):
     def test_section_8(self):
         self.examples_hold("section_8.txt", 11)
 
+    def test_section_9(self):
+        self.examples_hold("section_9.txt", 11)
+
+    def test_section_10(self):
+        self.examples_hold("section_10.txt", 17)
+
     def test_readme(self):
-        self.examples_hold(os.path.join(os.pardir, "README.md"), 15)
+        self.examples_hold(os.path.join(os.pardir, "README.md"), 20)
 
 
 if __name__ == "__main__":

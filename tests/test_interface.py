@@ -31,6 +31,12 @@ PARAMETERS = {
     "allcoursesfit.lots": {
         "choices": "book", "fits": "book tick", "has": "book tick state", "is_empty": "book",
         "lot": "book choice axis tick", "on_from": "book choice axis tick", "up_to": "book choice axis tick"},
+    "allcoursesfit.worlds": {
+        "any_world": "book", "barred": "book motion", "shows_any_world": "book value",
+        "shows_world_through": "book marks value", "shows_world_with": "book tick state value",
+        "told_by": "book motion", "world_through": "book marks", "world_with": "book tick state"},
+    "allcoursesfit.sums": {"rows": "book tick state axis", "summed": "book tick state axis value"},
+    "allcoursesfit.trees": {"refuted": "book tick state right", "shows_refuted": "book tick state right value"},
 }
 
 CLASSES = {"allcoursesfit.books": {"Book": "rules last readings wrong"}}

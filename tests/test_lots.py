@@ -131,7 +131,8 @@ class Shapes(unittest.TestCase):
         for tick in range(13):
             told = lot(book, choices(book)[0], 0, tick)
             self.assertTrue(strictly_shape(told))
-            self.assertEqual(told, both(up_to(book, choices(book)[0], 0, tick), on_from(book, choices(book)[0], 0, tick)))
+            self.assertEqual(told, both(up_to(book, choices(book)[0], 0, tick), on_from(book, choices(book)[0], 0,
+                tick)))
         self.assertEqual(up_to(book, choices(book)[0], 0, 0), points((0, -4), (0, 4)))
 
 
@@ -250,11 +251,13 @@ class Wrong(Refusals):
         right = (("c",), (1, 2, 2, None))
         self.assertIn(right, choices(book))
         others = OTHERS + (
-            0, (), ((),), right[:1], right + ((),), list(right), [right], (right,), right[0], right[1], book, nested(tuple),
+            0, (), ((),), right[:1], right + ((),), list(right), [right], (right,), right[0], right[1], book,
+            nested(tuple),
             ((), (1, 2, 2, 0)), (("c",), (1, 2, 2, 0)), (("c",), (1, 2, None, None)), (("b",), right[1]),
             (("c",), (1, 2, 2)), (("c",), (1, 2, 2, None, None)), (("c",), (None, 2, 2, None)), (["c"], right[1]),
             (("c",), [1, 2, 2, None]), ("c", right[1]), (("c",), (1, 0, 2, None)), (("c",), (1, 4, 2, None)),
-            (("c",), (2, 2, 2, None)), (("c",), (True, 2, 2, None)), (("c",), (1, 2, 2, False)), (("c",), (1, 2, 2, ())),
+            (("c",), (2, 2, 2, None)), (("c",), (True, 2, 2, None)), (("c",), (1, 2, 2, False)), (("c",), (1, 2, 2,
+                ())),
             (("c",), ("1", 2, 2, None)), (("c",), (1, (2,), 2, None)), (("b", "c"), (1, None, 2, None)),
             (("d",), (1, 2, 2, 0)), ((None,), (1, 2, 2, None)), ((True,), (1, 2, 2, None)), (("C",), right[1]),
             ((("c",),), right[1]), ({"c": True}, right[1]), (None, right[1]), (("c",), None), (("c", "c"), right[1]),

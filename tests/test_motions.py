@@ -7,7 +7,6 @@ from fractions import Fraction
 from allcoursesfit.errors import Apart, BadLast, BadLine, BadMotion, BadPart, BadRule, BadRules, BadShape
 from allcoursesfit.motions import ahead, behind, between, joined, motion_text, pushes, read_motion, start
 from allcoursesfit.points import point_text
-from allcoursesfit.shapes import hull
 from tests.courses import drawn_motion, meets_along, strictly_motion
 from tests.model import fraction, lies_in, pair, point, strictly_shape
 from tests.wrong import NOT_FRACTIONS, NOT_POINT_TEXTS, NOT_SHAPES, NOT_TEXTS, SQUARE, Refusals, nested, points

@@ -94,7 +94,8 @@ NOT_READING_TEXTS = (
     "radar 0 3 1 0 2", "radar 0 3 1 0 .", "radar 0 3 1 0 2.", "radar 0 3 1 0 2.3", "radar 0 3 1 0 2...3",
     "radar 0 3 1 0 2....3", "radar 0 3 1 0 3..2", "radar 0 3 1 0 2..3..", "radar 0 3 1 0 ..2..", "radar 0 3 1 0 02..",
     "radar 0 3 1 0 +2..", "radar 0 3 1 0 2..+3", "radar 0 3 1 0 10000..", "radar 0 3 1 0 ..-10000",
-    "radar 0 3 1 0 -0..", "radar 0 3 1 0 None..2", "radar 0 3 1 0 1/2..", "radar 0 3 1 0 2 ..", "read radar 0 3 1 0 2..",
+    "radar 0 3 1 0 -0..", "radar 0 3 1 0 None..2", "radar 0 3 1 0 1/2..", "radar 0 3 1 0 2 ..",
+    "read radar 0 3 1 0 2..",
     "radar 0 3 1 0 0..0..0", "radar 0 3 1 0 1_0..", "radar 0 3 1 0 2..None", "('radar', 0, 3, 5, 1, 0, 2, None)",
 )
 
