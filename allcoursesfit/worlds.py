@@ -19,9 +19,7 @@ def is_mark(book, value):
 
 def need_marks(book, value):
     """Raises BadMarks unless value is a tuple of marks, their ticks ascending, each once."""
-    if not isinstance(value, tuple) or len(value) > 13:
-        raise BadMarks(value)
-    if not all([is_mark(book, mark) for mark in value]):
+    if not isinstance(value, tuple) or not all([is_mark(book, mark) for mark in value]):
         raise BadMarks(value)
     if not all([mark[0] < other[0] for mark, other in zip(value, value[1:])]):
         raise BadMarks(value)

@@ -176,7 +176,7 @@ class Trees(Refusals):
 
     def test_just_where_no_world_has_the_state(self):
         found = []
-        for R, book in books(111, 90):
+        for R, book in books(111, 56):
             tick = R.randint(0, book.last)
             for state in self.states(R, book, tick):
                 for right in self.rights(book):
@@ -189,8 +189,8 @@ class Trees(Refusals):
                         self.assertIs(shows_refuted(book, tick, state, right, tree), True)
                         self.assertEqual(tree, refuted(book, tick, state, right))
                     found.append(tree is None)
-        self.assertGreater(found.count(True), 200)
-        self.assertGreater(found.count(False), 400)
+        self.assertGreater(found.count(True), 100)
+        self.assertGreater(found.count(False), 200)
 
     def test_never_both(self):
         for R, book in books(112, 150):
@@ -220,7 +220,7 @@ class Trees(Refusals):
     def test_long_ones(self):
         R = random.Random(114)
         found = []
-        for turn in range(24):
+        for turn in range(16):
             book, motion = true_book(R, 12, 1 + turn % 3, 22, turn % 4, "abcdef", turn % 2)
             tick = R.randint(0, 12)
             for more in (0, 1, Fraction(1, 7)):
@@ -234,8 +234,8 @@ class Trees(Refusals):
                 found.append(tree is None)
             self.assertIsNone(refuted(book, tick, motion[tick], tuple(
                 [name for name in book.sources if name not in wrong_in(book.readings, motion)])))
-        self.assertGreater(found.count(False), 15)
-        self.assertGreater(found.count(True), 24)
+        self.assertGreater(found.count(False), 8)
+        self.assertGreater(found.count(True), 16)
 
     def test_rim_and_just_beyond(self):
         book = Book((RULE,), 2, (("a", 0, 1, 1, 1, 0, 3, 5), ("b", 0, 2, 2, 0, 1, 1, None)), 0)

@@ -63,7 +63,7 @@ class Worlds(Refusals):
 
     def test_world_with_corners_and_others(self):
         found = []
-        for R, book in books(92, 80):
+        for R, book in books(92, 44):
             for tick in range(book.last + 1):
                 states = [drawn_state(R, book) for _ in range(2)]
                 for _, _, shapes in fits(book, tick)[:3]:
@@ -78,8 +78,8 @@ class Worlds(Refusals):
                     self.assertIs(told is not None, has(book, tick, state), (book.text, tick, state))
                     self.assertEqual(told, world_with(book, tick, state))
                     found.append(told is None)
-        self.assertGreater(found.count(True), 300)
-        self.assertGreater(found.count(False), 300)
+        self.assertGreater(found.count(True), 150)
+        self.assertGreater(found.count(False), 150)
 
     def test_marks_of_drawn_motions(self):
         R = random.Random(93)
