@@ -10,7 +10,14 @@ WEIGHTS = ((1, 0), (0, 1), (1, 1), (2, -1), (-3, 2), (-1, 0))
 
 
 def drawn_rule(R):
-    return (R.randint(-3, 0), R.randint(1, 5), R.randint(-2, 0), R.randint(0, 3), R.randint(-2, 0), R.randint(0, 1))
+    """A RULE, mostly with the speed 0 and the push 0, sometimes without, or with a pair that is alike."""
+    if R.random() < 0.7:
+        return (R.randint(-3, 0), R.randint(1, 5), R.randint(-2, 0), R.randint(0, 3), R.randint(-2, 0), R.randint(0, 1))
+    rule = ()
+    for low, high, wide in ((-3, 3, 6), (-2, 2, 3), (-1, 1, 2)):
+        least = R.randint(low, high)
+        rule = rule + (least, least + R.choice((0, 0, 1, wide)))
+    return rule
 
 
 def drawn_ticks(R, last, may_be_unsure):

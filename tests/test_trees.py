@@ -204,7 +204,7 @@ class Trees(Refusals):
     def test_several_wrong_and_unsure_ones(self):
         found = []
         R = random.Random(113)
-        for turn in range(160):
+        for turn in range(320):
             last, axes, wrong = R.choice((1, 2, 3)), 1 + turn % 2, turn % 4
             book = small_book(R, last, axes, R.randint(5, 10), wrong, "abcdef"[:3 + turn % 4])
             names = R.sample(book.sources, R.randint(0, len(book.sources)))
