@@ -219,6 +219,21 @@ class Motions(Refusals):
         self.bad_line(14, (RULE,), "\n".join(lines + ["x"]))
         self.bad_line(7, (RULE,), "\n".join(lines[:6] + ["x"] + lines))
 
+    def test_each_sign_bent(self):
+        for rules, text in (((RULE,), "4 1\n5 3/2\n13/2 1/2"), ((RULE, FLAT), "1/3 -1/4 ; 3 0\n1/12 -1/4 ; 3 0")):
+            for at in range(len(text)):
+                for sign in ("", " ", "x", "\n", "0", "1", "-", "/", ";", "."):
+                    for bent in (text[:at] + sign + text[at:], text[:at] + sign + text[at + 1:]):
+                        line = bent[:at].count("\n") + 1
+                        try:
+                            told = read_motion(rules, bent)
+                        except BadLine as error:
+                            # A line that can stand by itself can be one that the next one doesn't follow.
+                            self.assertIn(error.value, (line, line + 1), bent)
+                        else:
+                            self.assertTrue(strictly_motion(rules, told), bent)
+                            self.assertEqual(motion_text(rules, told), bent)
+
     def test_bent_points(self):
         for text in NOT_POINT_TEXTS:
             self.bad_line(1, (RULE,), text.replace("\n", "\t"))

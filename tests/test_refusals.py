@@ -1,0 +1,107 @@
+"""Sections 6 to 10: every parameter wrong, by position and by name, alone and with those behind it."""
+
+import importlib
+import unittest
+
+from allcoursesfit import errors
+from allcoursesfit.books import Book
+from allcoursesfit.errors import FitError
+from tests.test_interface import PARAMETERS
+from tests.wrong import SQUARE, Refusals, nested, points
+from tests.wrong_books import EXACT, RULE, SLOW, exact, unsure
+
+BOOK = Book((RULE,), 2, (exact("a"), unsure("b", 0, 2)), 1)
+CHOICE = (("a",), (None, 1))
+STATE = points((4, 0))
+
+# For each parameter: a value that is right, and the error that is named for what is not.
+TOLD = {
+    "rule": (RULE, "BadRule"), "rules": ((RULE,), "BadRules"), "shape": (SQUARE, "BadShape"),
+    "motion": (SLOW, "BadMotion"),
+    "one": (SLOW[:1], "BadMotion"), "other": (SLOW[:1], "BadMotion"), "part": ((1, 2), "BadPart"),
+    "last": (2, "BadLast"),
+    "reading": (EXACT, "BadReading"), "readings": ((EXACT,), "BadReadings"), "wrong": (1, "BadWrong"),
+    "states": (SLOW, "BadStates"), "book": (BOOK, "NoBook"), "number": (0, "NoReading"),
+    "choice": (CHOICE, "BadChoice"),
+    "axis": (0, "BadAxis"), "tick": (1, "BadTick"), "state": (STATE, "BadState"), "marks": (((1, STATE),), "BadMarks"),
+    "right": (("a",), "BadSources"),
+}
+# Right for no parameter at all.
+EVER_WRONG = (True, False, -1, 99, [], [1], {}, {"a": [1]}, (None,), ((),), ("x",), (True, 1), [(0, 1)], FitError(1),
+              nested(list), nested(tuple), nested(dict), [EXACT], list(SLOW), list(SQUARE), [RULE])
+MODULES = ("motions", "readings", "books", "lots", "worlds", "sums", "trees")
+
+
+def calls():
+    """Each function, and the class, with the list of the names of its parameters."""
+    for module in MODULES:
+        for name, words in PARAMETERS["allcoursesfit." + module].items():
+            yield name, getattr(importlib.import_module("allcoursesfit." + module), name), words.split()
+    yield "Book", Book, ["rules", "last", "readings", "wrong"]
+
+
+def told(name, words):
+    """Values for all parameters that are right, and the names of the errors."""
+    rights, kinds = {}, {}
+    for word in words:
+        if word in TOLD:
+            rights[word], kinds[word] = TOLD[word]
+    if "value" in words:
+        rights["value"] = None
+        if name == "summed":
+            rights["value"], kinds["value"] = (), "BadSum"
+    if "text" in words:
+        rights["text"] = {"read_motion": "4 0", "read_reading": "ear 0 1 2 -1 -3..3", "read_book": BOOK.text}[name]
+        kinds["text"] = {"read_motion": "BadLine", "read_reading": "BadReading", "read_book": "BadBook"}[name]
+    return rights, kinds
+
+
+class EveryParameter(Refusals):
+    def look(self, kind, wrong, call, words, values):
+        was = repr(values)
+        expected = 0 if kind in ("BadLine", "BadBook") else wrong
+        for by_name in (False, True):
+            with self.assertRaises(errors.FitError) as held:
+                if by_name:
+                    call(**{word: values[word] for word in reversed(words)})
+                else:
+                    call(*[values[word] for word in words])
+            self.assertIs(type(held.exception), getattr(errors, kind), (call, values))
+            self.assertIs(held.exception.value, expected, (call, values))
+        self.assertEqual(repr(values), was)
+
+    def test_right_values(self):
+        for name, call, words in calls():
+            rights, kinds = told(name, words)
+            self.assertEqual(set(rights), set(words), name)
+            one = call(*[rights[word] for word in words])
+            self.assertEqual(one, call(**rights), name)
+            self.assertNotIsInstance(one, (list, dict, set), name)
+            if name.startswith(("is_", "shows_", "has", "fulfils")):
+                self.assertIs(type(one), bool, name)
+
+    def wrong_values(self, name, word):
+        """Values that are wrong for this parameter."""
+        values = EVER_WRONG
+        if name not in ("rows", "summed", "refuted", "shows_refuted") or word != "state":
+            values = values + (None,)
+        if name not in ("read_motion", "read_book"):
+            values = values + ("x y", "")
+        return values
+
+    def test_one_wrong_and_those_behind_it(self):
+        for name, call, words in calls():
+            rights, kinds = told(name, words)
+            for at, word in enumerate(words):
+                if word in kinds:
+                    for wrong in self.wrong_values(name, word):
+                        values = dict(rights)
+                        values[word] = wrong
+                        self.look(kinds[word], wrong, call, words, values)
+                        for behind in words[at + 1:]:
+                            values[behind] = {"a": [None]}
+                        self.look(kinds[word], wrong, call, words, values)
+
+
+if __name__ == "__main__":
+    unittest.main()
