@@ -17,11 +17,6 @@ def suspects(names, many):
     return found
 
 
-def wrong_many(book):
-    """How many wrong sources each CHOICE of the book has."""
-    return min(book.wrong, len(book.sources))
-
-
 def ticks_of(reading, wrong):
     """The list of what may be chosen for a READING: its ticks, or None alone for one of a wrong source."""
     if reading[0] in wrong:
@@ -37,13 +32,19 @@ def chosen_ticks(readings, wrong):
     return rows
 
 
-def choices_of(book):
-    """The ascending list of all CHOICES."""
+def choices_but(book, right):
+    """The ascending list of all CHOICES, but none of right may be wrong, and as many as can be of the others are."""
+    names = [name for name in book.sources if name not in right]
     found = []
-    for wrong in suspects(book.sources, wrong_many(book)):
+    for wrong in suspects(names, min(book.wrong, len(names))):
         for ticks in chosen_ticks(book.readings, wrong):
             found.append((wrong, ticks))
     return found
+
+
+def choices_of(book):
+    """The ascending list of all CHOICES."""
+    return choices_but(book, ())
 
 
 def is_chosen(tick, reading, wrong):
@@ -58,7 +59,7 @@ def is_choice(book, value):
     if not isinstance(value, tuple) or len(value) != 2:
         return False
     wrong, ticks = value
-    if not are_sources(book, wrong) or len(wrong) != wrong_many(book):
+    if not are_sources(book, wrong) or len(wrong) != min(book.wrong, len(book.sources)):
         return False
     if not isinstance(ticks, tuple) or len(ticks) != len(book.readings):
         return False
@@ -108,27 +109,33 @@ def choices(book):
 
 
 def shapes_at(steps, book, choice, tick):
-    """The tuple of the lots of all axes, None if one of them is ()."""
-    shapes = ()
+    """The tuple of the lots of all axes, None if one of them is ().
+
+    The steps of all axes are used, even if the first lot is (): a Tracker tells how many it used.
+    """
+    shapes = []
     for axis in range(len(book.rules)):
-        shape = steps.lot(axis, tick, cuts_of(book, choice, axis), book.last)
-        if shape == ():
-            return None
-        shapes = shapes + (shape,)
-    return shapes
+        shapes.append(steps.lot(axis, tick, cuts_of(book, choice, axis), book.last))
+    if () in shapes:
+        return None
+    return tuple(shapes)
+
+
+def fits_of(steps, book, tick):
+    """The list of (wrong, ticks, shapes), for each CHOICE that some MOTION fits, ascending."""
+    found = []
+    for choice in choices_of(book):
+        shapes = shapes_at(steps, book, choice, tick)
+        if shapes is not None:
+            found.append(choice + (shapes,))
+    return found
 
 
 def fits(book, tick):
     """The tuple of (wrong, ticks, shapes), for each CHOICE that some MOTION fits, ascending."""
     need_book(book)
     need_tick(tick, book.last)
-    steps = Steps(book.rules)
-    found = []
-    for choice in choices_of(book):
-        shapes = shapes_at(steps, book, choice, tick)
-        if shapes is not None:
-            found.append(choice + (shapes,))
-    return tuple(found)
+    return tuple(fits_of(Steps(book.rules), book, tick))
 
 
 def lies_in(shapes, state):

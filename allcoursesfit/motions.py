@@ -69,6 +69,14 @@ def point_between(one, other, part):
     return (number_between(one[0], other[0], part), number_between(one[1], other[1], part))
 
 
+def motion_between(one, other, part):
+    """The STATES part of the way from those of one MOTION to those of another one, both of the same LAST."""
+    states = []
+    for here, there in zip(one, other):
+        states.append(tuple([point_between(point, far, part) for point, far in zip(here, there)]))
+    return tuple(states)
+
+
 def between(rules, one, other, part):
     """The MOTION part of the way from one to other, number by number."""
     need_rules(rules)
@@ -78,10 +86,7 @@ def between(rules, one, other, part):
         raise Apart(None)
     if not is_fraction(part) or not is_between(part, 0, 1):
         raise BadPart(part)
-    states = []
-    for here, there in zip(one, other):
-        states.append(tuple([point_between(point, far, part) for point, far in zip(here, there)]))
-    return tuple(states)
+    return motion_between(one, other, part)
 
 
 def motion_text(rules, motion):

@@ -4,7 +4,7 @@ All is reckoned in integers: a POINT as (x, v, w), w from 1 on, its place x / w 
 *side*, a half of the plane, as (p, q, r): where p times the place, q times the speed and r come to 0 or more.
 """
 
-from allcoursesfit.points import in_sequence
+from allcoursesfit.points import in_sequence, weighed
 from allcoursesfit.ratios import is_below, plus, reduced
 
 
@@ -99,16 +99,35 @@ def common(one, other):
     return left
 
 
+def place_by(sides, point):
+    """-1 for a POINT without one of the sides, one or more; 0 for one on the line of one of them; otherwise 1."""
+    least = min([at_side(side, point) for side in sides])
+    if least < 0:
+        return -1
+    if least == 0:
+        return 0
+    return 1
+
+
 def place_in(corners, point):
     """-1 for a POINT without a SHAPE, 1 for one with the SHAPE on all sides round about, otherwise 0."""
     if len(corners) == 0:
         return -1
-    told = [at_side(side, point) for side in sides_of(corners)]
-    if min(told) < 0:
-        return -1
-    if min(told) == 0:
-        return 0
-    return 1
+    return place_by(sides_of(corners), point)
+
+
+def ends_of(corners, p, q):
+    """The least and the greatest that the form comes to in a SHAPE, each with the first corner for it; None for ()."""
+    if len(corners) == 0:
+        return None
+    least = greatest = (weighed(corners[0], p, q), corners[0])
+    for corner in corners:
+        told = weighed(corner, p, q)
+        if is_below(told, least[0]):
+            least = (told, corner)
+        if is_below(greatest[0], told):
+            greatest = (told, corner)
+    return (least, greatest)
 
 
 def leaned(corners, by):

@@ -1,9 +1,9 @@
 """SHAPES: bounded convex lots of POINTS of the plane of place and speed, told by their corners."""
 
 from allcoursesfit.errors import BadBounds, BadNumber, BadShape
-from allcoursesfit.planes import common, cut, doubled_area, hull_of, leaned, place_in, spread
-from allcoursesfit.points import is_point, need_point, need_points, need_weights, read_words, weighed, words_of
-from allcoursesfit.ratios import is_below, is_whole, times
+from allcoursesfit.planes import common, cut, doubled_area, ends_of, hull_of, leaned, place_in, spread
+from allcoursesfit.points import is_point, need_point, need_points, need_weights, read_words, words_of
+from allcoursesfit.ratios import is_whole, times
 
 
 def is_shape(value):
@@ -83,16 +83,7 @@ def ends(shape, p, q):
     """The least and the greatest that the form comes to in shape, each with the first corner for it; None for ()."""
     need_shape(shape)
     need_weights(p, q)
-    if len(shape) == 0:
-        return None
-    least = greatest = (weighed(shape[0], p, q), shape[0])
-    for corner in shape:
-        told = weighed(corner, p, q)
-        if is_below(told, least[0]):
-            least = (told, corner)
-        if is_below(greatest[0], told):
-            greatest = (told, corner)
-    return (least, greatest)
+    return ends_of(shape, p, q)
 
 
 def area(shape):

@@ -53,6 +53,12 @@ class Steps:
         self.rules = rules
         self.kept = {}
 
+    def twin(self):
+        """Other Steps that have kept the same, and go on by themselves."""
+        other = Steps(self.rules)
+        other.kept = {key: self.kept[key] for key in self.kept}
+        return other
+
     def forward(self, axis, tick, cuts):
         """The SHAPE of all POINTS at this tick of MOTIONS that fulfil the cuts of this tick and of those ahead."""
         rule = self.rules[axis]

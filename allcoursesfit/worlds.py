@@ -25,12 +25,15 @@ def need_marks(book, value):
         raise BadMarks(value)
 
 
-def cuts_through(book, choice, axis, marks):
-    """The cuts that a CHOICE and the marks tell for an axis."""
+def point_cuts(axis, tick, point):
+    """The list of pairs (axis, cut) that leave one POINT alone on an axis at a tick."""
+    return [(axis, told) for told in mark_cuts(tick, point)]
+
+
+def cuts_with(book, choice, axis, extra):
+    """The cuts for an axis of a CHOICE and of a list of pairs (axis, cut)."""
     row = list(cuts_of(book, choice, axis))
-    for tick, state in marks:
-        row = row + mark_cuts(tick, state[axis])
-    return as_cuts(row)
+    return as_cuts(row + [told for other, told in extra if other == axis])
 
 
 def axis_points(steps, axis, cuts, last):
@@ -44,11 +47,11 @@ def axis_points(steps, axis, cuts, last):
     return points
 
 
-def motion_through(steps, book, choice, marks):
-    """Some MOTION that fits a CHOICE and has each mark's STATE at its tick, None if there is none."""
+def motion_with(steps, book, choice, extra):
+    """Some MOTION that fits a CHOICE and the cuts in a list of pairs (axis, cut), None if there is none."""
     rows = []
     for axis in range(len(book.rules)):
-        row = axis_points(steps, axis, cuts_through(book, choice, axis, marks), book.last)
+        row = axis_points(steps, axis, cuts_with(book, choice, axis, extra), book.last)
         if row == []:
             return None
         rows.append(row)
@@ -60,13 +63,24 @@ def barred_by(book, motion):
     return tuple(names_of([reading for reading in book.readings if first_held(reading, motion) is None]))
 
 
+def world_of(book, motion):
+    """The WORLD of a MOTION, in which just those sources are wrong that it bars; None for None."""
+    if motion is None:
+        return None
+    return (motion, barred_by(book, motion))
+
+
 def some_world(book, marks):
     """Some WORLD that has each mark's STATE at its tick, None if there is none."""
     steps = Steps(book.rules)
+    extra = []
+    for tick, state in marks:
+        for axis, point in enumerate(state):
+            extra = extra + point_cuts(axis, tick, point)
     for choice in choices_of(book):
-        motion = motion_through(steps, book, choice, marks)
+        motion = motion_with(steps, book, choice, extra)
         if motion is not None:
-            return (motion, barred_by(book, motion))
+            return world_of(book, motion)
     return None
 
 

@@ -32,8 +32,20 @@ class Examples(unittest.TestCase):
     def test_section_10(self):
         self.examples_hold("section_10.txt", 17)
 
+    def test_section_11(self):
+        self.examples_hold("section_11.txt", 8)
+
+    def test_section_12(self):
+        self.examples_hold("section_12.txt", 10)
+
+    def test_section_13(self):
+        self.examples_hold("section_13.txt", 8)
+
+    def test_section_14(self):
+        self.examples_hold("section_14.txt", 8)
+
     def test_readme(self):
-        self.examples_hold(os.path.join(os.pardir, "README.md"), 20)
+        self.examples_hold(os.path.join(os.pardir, "README.md"), 35)
 
 
 if __name__ == "__main__":

@@ -37,9 +37,32 @@ PARAMETERS = {
         "told_by": "book motion", "world_through": "book marks", "world_with": "book tick state"},
     "allcoursesfit.sums": {"rows": "book tick state axis", "summed": "book tick state axis value"},
     "allcoursesfit.trees": {"refuted": "book tick state right", "shows_refuted": "book tick state right value"},
+    "allcoursesfit.sure": {
+        "barred_world": "book number", "kept_world": "book number", "right_world": "book source",
+        "shows_barred_world": "book number value", "shows_kept_world": "book number value",
+        "shows_right_world": "book source value", "shows_wrong_world": "book source value", "surely_right": "book",
+        "surely_wrong": "book", "word_at": "book number", "word_of": "book source", "wrong_world": "book source"},
+    "allcoursesfit.bounds": {
+        "bounds": "book form", "can_be": "book ask", "can_be_in": "book tick area", "first_sure": "book ask",
+        "middle": "book form", "shows_bounds": "book form value", "surely": "book ask", "surely_in": "book tick area"},
+    "allcoursesfit.asks": {
+        "answers": "book ask form", "best_asks": "book asks form", "least_left": "book asks form depth",
+        "plan": "book asks form depth", "shows_plan": "book asks form depth value", "worth": "book asks form plan"},
 }
 
-CLASSES = {"allcoursesfit.books": {"Book": "rules last readings wrong"}}
+CLASSES = {
+    "allcoursesfit.books": {"Book": "rules last readings wrong"},
+    "allcoursesfit.keeping": {"Tracker": "rules last wrong"},
+}
+
+# For each class its methods, with their parameters, and the attributes that are set on each object.
+METHODS = {
+    "Book": {"__eq__": "other"},
+    "Tracker": {"put": "reading", "take": "number", "later": "", "fits": "tick", "has": "tick state", "copy": "",
+                "__eq__": "other"},
+}
+ATTRIBUTES = {"Book": "rules last readings wrong sources text", "Tracker": "book numbers work"}
+CREATED = {"Book": ((RULE,), 2, (EXACT,), 1), "Tracker": ((RULE,), 2, 1)}
 
 
 class Interface(unittest.TestCase):
@@ -61,6 +84,17 @@ class Interface(unittest.TestCase):
                 self.assertTrue(inspect.isclass(kind), name)
                 self.assertEqual((kind.__module__, kind.__name__, kind.__bases__), (module, name, (object,)))
                 self.assertEqual(list(inspect.signature(kind).parameters), words.split())
+
+    def test_methods_and_attributes(self):
+        for module, classes in CLASSES.items():
+            for name in classes:
+                kind = getattr(importlib.import_module(module), name)
+                for method, words in METHODS[name].items():
+                    self.assertTrue(inspect.isfunction(vars(kind)[method]), (name, method))
+                    told = list(inspect.signature(vars(kind)[method]).parameters.values())[1:]
+                    self.assertEqual([one.name for one in told], words.split(), (name, method))
+                for attribute in ATTRIBUTES[name].split():
+                    self.assertIn(attribute, vars(kind(*CREATED[name])), (name, attribute))
 
     def test_motions_and_readings_by_name(self):
         self.assertEqual(start(rule=FLAT), points((3, 0)))

@@ -71,6 +71,76 @@ class Language(unittest.TestCase):
                 if isinstance(node, ast.Name) and not isinstance(node.ctx, ast.Load):
                     self.assertFalse(hasattr(builtins, node.id), (name, node.lineno))
 
+    def test_sets_signs_and_what_is(self):
+        barred = (ast.Set, ast.SetComp, ast.GeneratorExp, ast.Global, ast.Nonlocal, ast.Yield, ast.YieldFrom)
+        for name, text in files():
+            for node in ast.walk(ast.parse(text)):
+                self.assertNotIsInstance(node, barred, name)
+                if isinstance(node, ast.Constant) and isinstance(node.value, str):
+                    self.assertNotIn("%", node.value, (name, node.lineno))
+                if isinstance(node, ast.Compare):
+                    for sign, told in zip(node.ops, node.comparators):
+                        if isinstance(sign, (ast.Is, ast.IsNot)):
+                            self.assertIsInstance(told, ast.Constant, (name, node.lineno))
+                            self.assertIn(told.value, (None, True, False))
+
+    def test_each_name_is_bound_once(self):
+        for name, text in files():
+            bound, taken = [], []
+            for node in ast.parse(text).body:
+                if isinstance(node, ast.ImportFrom):
+                    bound += [one.name for one in node.names]
+                    taken += [one.name for one in node.names]
+                elif isinstance(node, (ast.FunctionDef, ast.ClassDef)):
+                    bound.append(node.name)
+                    taken += [node.name] if isinstance(node, ast.ClassDef) else []
+                elif isinstance(node, ast.Assign):
+                    bound += [one.id for one in node.targets]
+            self.assertEqual(len(set(bound)), len(bound), name)
+            for node in ast.walk(ast.parse(text)):
+                if isinstance(node, ast.arg):
+                    self.assertNotIn(node.arg, taken, (name, node.lineno))
+                if isinstance(node, ast.Name) and isinstance(node.ctx, ast.Store):
+                    self.assertNotIn(node.id, taken, (name, node.lineno))
+
+    def test_no_two_files_import_from_each_other(self):
+        imports = {}
+        for name, text in files():
+            found = [node for node in ast.parse(text).body if isinstance(node, ast.ImportFrom)]
+            imports[name[:-3]] = [node.module.split(".")[1] for node in found if "." in node.module]
+        left = dict(imports)
+        while left:
+            free = [name for name in left if not [one for one in left[name] if one in left]]
+            self.assertNotEqual(free, [], sorted(left))
+            for name in free:
+                del left[name]
+
+    def test_every_import_is_used_and_names_its_file(self):
+        bodies = {name[:-3]: ast.parse(text).body for name, text in files()}
+        for name, text in files():
+            words = [node.id for node in ast.walk(ast.parse(text)) if isinstance(node, ast.Name)]
+            for node in ast.parse(text).body:
+                if isinstance(node, ast.ImportFrom):
+                    for one in node.names:
+                        self.assertIn(one.name, words, name)
+                    if node.module.startswith("allcoursesfit."):
+                        defined = []
+                        for other in bodies[node.module.split(".")[1]]:
+                            if isinstance(other, (ast.FunctionDef, ast.ClassDef)):
+                                defined.append(other.name)
+                            if isinstance(other, ast.Assign):
+                                defined += [target.id for target in other.targets]
+                        for one in node.names:
+                            self.assertIn(one.name, defined, name)
+
+    def test_finally_puts_back_alone(self):
+        for name, text in files():
+            for node in ast.walk(ast.parse(text)):
+                if isinstance(node, ast.Try):
+                    for part in node.finalbody:
+                        for one in ast.walk(part):
+                            self.assertNotIsInstance(one, (ast.Call, ast.Raise, ast.Return, ast.Subscript), name)
+
 
 if __name__ == "__main__":
     unittest.main()

@@ -1,4 +1,4 @@
-"""Sections 6 to 10: every parameter wrong, by position and by name, alone and with those behind it."""
+"""Sections 6 to 14: every parameter wrong, by position and by name, alone and with those behind it."""
 
 import importlib
 import unittest
@@ -6,6 +6,7 @@ import unittest
 from allcoursesfit import errors
 from allcoursesfit.books import Book
 from allcoursesfit.errors import FitError
+from allcoursesfit.keeping import Tracker
 from tests.test_interface import PARAMETERS
 from tests.wrong import SQUARE, Refusals, nested, points
 from tests.wrong_books import EXACT, RULE, SLOW, exact, unsure
@@ -25,11 +26,17 @@ TOLD = {
     "choice": (CHOICE, "BadChoice"),
     "axis": (0, "BadAxis"), "tick": (1, "BadTick"), "state": (STATE, "BadState"), "marks": (((1, STATE),), "BadMarks"),
     "right": (("a",), "BadSources"),
+    "source": ("b", "NoSource"), "form": ((0, 2, 1, 0), "BadForm"), "ask": ((0, 2, 1, 0, (1, 2)), "BadAsk"),
+    "area": ((SQUARE,), "BadArea"), "asks": (((0, 2, 1, 0, (1, 2)),), "BadAsks"), "depth": (2, "BadNumber"),
+    "plan": ((0, None, None), "BadPlan"),
 }
+# What stands for None, too, and where the number of a READING is refused by another error.
+NONE_IS_RIGHT = ("plan",)
+NUMBERS = ("kept_world", "barred_world", "word_at", "shows_kept_world", "shows_barred_world")
 # Right for no parameter at all.
 EVER_WRONG = (True, False, -1, 99, [], [1], {}, {"a": [1]}, (None,), ((),), ("x",), (True, 1), [(0, 1)], FitError(1),
               nested(list), nested(tuple), nested(dict), [EXACT], list(SLOW), list(SQUARE), [RULE])
-MODULES = ("motions", "readings", "books", "lots", "worlds", "sums", "trees")
+MODULES = ("motions", "readings", "books", "lots", "worlds", "sums", "trees", "sure", "bounds", "asks")
 
 
 def calls():
@@ -38,6 +45,7 @@ def calls():
         for name, words in PARAMETERS["allcoursesfit." + module].items():
             yield name, getattr(importlib.import_module("allcoursesfit." + module), name), words.split()
     yield "Book", Book, ["rules", "last", "readings", "wrong"]
+    yield "Tracker", Tracker, ["rules", "last", "wrong"]
 
 
 def told(name, words):
@@ -46,6 +54,8 @@ def told(name, words):
     for word in words:
         if word in TOLD:
             rights[word], kinds[word] = TOLD[word]
+    if name in NUMBERS:
+        kinds["number"] = "BadNumber"
     if "value" in words:
         rights["value"] = None
         if name == "summed":
@@ -77,12 +87,14 @@ class EveryParameter(Refusals):
             one = call(*[rights[word] for word in words])
             self.assertEqual(one, call(**rights), name)
             self.assertNotIsInstance(one, (list, dict, set), name)
-            if name.startswith(("is_", "shows_", "has", "fulfils")):
+            if name.startswith(("is_", "shows_", "has", "fulfils", "surely_in", "can_be")):
                 self.assertIs(type(one), bool, name)
 
     def wrong_values(self, name, word):
         """Values that are wrong for this parameter."""
-        values = EVER_WRONG
+        values = tuple([value for value in EVER_WRONG if (word, value) != ("area", ((),))])
+        if word in NONE_IS_RIGHT:
+            return values + ("x y", "")
         if name not in ("rows", "summed", "refuted", "shows_refuted") or word != "state":
             values = values + (None,)
         if name not in ("read_motion", "read_book"):
