@@ -65,10 +65,10 @@ class Inquiry:
         return as_cuts(list(case[axis]) + told)
 
     def goes_below(self, ask, cuts):
-        """Whether the ASK is answered by no in some MOTION of its axis that fulfils the cuts."""
+        """Whether the ASK is answered by no in some MOTION of its axis that fulfils the cuts, if any does."""
         axis, tick, p, q, number = ask
-        ends = ends_of(self.steps.lot(axis, tick, cuts, self.book.last), p, q)
-        return ends is not None and is_below(ends[0][0], number)
+        least, greatest = ends_of(self.steps.lot(axis, tick, cuts, self.book.last), p, q)
+        return is_below(least[0], number)
 
     def is_left(self, axis, cuts, answers):
         """Whether some MOTION of an axis fulfils the cuts, and comes to less than the number where the answer is no.

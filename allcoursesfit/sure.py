@@ -14,7 +14,7 @@ from allcoursesfit.worlds import barred_by, cuts_with, motion_with, point_cuts, 
 def need_source(book, source):
     """Raises NoBook or NoSource unless these are a BOOK and the NAME of one of its sources."""
     need_book(book)
-    if not isinstance(source, str) or source not in book.sources:
+    if source not in book.sources:
         raise NoSource(source)
 
 

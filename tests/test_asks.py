@@ -9,7 +9,7 @@ from allcoursesfit.asks import answers, best_asks, least_left, plan, shows_plan,
 from allcoursesfit.books import Book
 from allcoursesfit.bounds import bounds, middle
 from allcoursesfit.errors import BadAsk, BadAsks, BadForm, BadNumber, BadPlan, NoBook
-from tests.drawn_books import books, true_book
+from tests.drawn_books import books, small_book, true_book
 from tests.elimination import all_choices, chosen_cuts, corners, region
 from tests.model import fraction
 from tests.strictness import can_be
@@ -48,6 +48,12 @@ class Left:
 
     def ends(self, given):
         """The (low, high) of the goal, given a list of pairs (number, yes); None if nothing is left."""
+        key = ("given", frozenset(given))
+        if key not in self.known:
+            self.known[key] = self.ends_anew(given)
+        return self.known[key]
+
+    def ends_anew(self, given):
         found = []
         for choice in all_choices(self.book):
             told = []
@@ -167,6 +173,27 @@ class AgainstTheModel(Refusals):
                 self.assertEqual(worth(book, asks, goal, some), fraction(model.worth(some)))
 
 
+    def test_many_choices(self):
+        # What is found of some CHOICES may hide others, but never for what is asked next.
+        R = random.Random(325)
+        for turn in range(40):
+            names = "abcd" if turn % 2 else "abcde"
+            if turn % 4 < 3:
+                book, motion = true_book(R, 1 + turn % 2, 1, R.randint(5, 8), 2, names, R.randint(0, 2))
+            else:
+                book = small_book(R, 1, 1, 6, 3, names)
+            asks, goal = drawn_inquiry(R, book, 3)
+            model = Left(book, asks, goal)
+            self.answers_look(book, asks, goal, model)
+            some = plans(3, 2)
+            for told in R.sample(some, 15) + [(0, pair[0], pair[1]) for pair in zip(R.sample(some, 4), R.sample(some, 4))]:
+                number = model.worth(told)
+                self.assertEqual(worth(book, asks, goal, told), None if number < 0 else fraction(number),
+                                 (book.text, asks, goal, told))
+            least = min(model.worth(told) for told in some)
+            self.assertEqual(least_left(book, asks, goal, 2), None if least < 0 else fraction(least))
+
+
 class Edges(Refusals):
     def test_a_yes_lets_its_bound_in_and_a_no_does_not(self):
         # The place at tick 2 is from 0 to 6.
@@ -204,6 +231,24 @@ class Edges(Refusals):
         self.assertEqual(answers(book, goal + ((5, 1),), goal), (((5, 1), (9, 1)), ((0, 1), (2, 1))))
         self.assertEqual(answers(book, goal + ((0, 1),), goal), (((0, 1), (9, 1)), None))
         self.assertEqual(answers(book, goal + ((2, 1),), goal), (((2, 1), (9, 1)), ((0, 1), (2, 1))))
+
+    def test_one_source_of_three_is_right(self):
+        # Whichever it is, what one leaves must not hide what another leaves; the first ASK tells nothing.
+        goal, speed = (0, 0, 1, 0), (0, 0, 0, 1, (0, 1))
+        for a, b, c in itertools.permutations(((0, 3), (6, 9), (4, 5))):
+            readings = tuple([exact(name, 0, 0, *told) for name, told in zip("abc", (a, b, c))])
+            book = Book((RULE,), 0, readings, 2)
+            for number, yes, no in ((4, (4, 9), (0, 3)), (6, (6, 9), (0, 5)), (5, (5, 9), (0, 5)), (1, (1, 9), (0, 1))):
+                asks = (speed, goal + ((number, 1),))
+                errors = [Fraction(high - low, 2) for low, high in (yes, no)]
+                for way, told in (((1, None, None), max(errors)), ((0, (1, None, None), (1, None, None)), max(errors)),
+                                  ((0, None, None), Fraction(9, 2)), ((0, (1, None, None), None), Fraction(9, 2))):
+                    self.assertEqual(worth(book, asks, goal, way), fraction(told), (book.text, number, way))
+        for low, high in (((0, 5), (4, 9)), ((0, 5), (5, 9)), ((0, 4), (5, 9))):
+            for a, b, c in itertools.permutations((low, high, (4, 6))):
+                readings = tuple([exact(name, 0, 0, *told) for name, told in zip("abc", (a, b, c))])
+                book = Book((RULE,), 0, readings, 2)
+                self.assertEqual(answers(book, speed, goal), (((0, 1), (9, 1)), ((0, 1), (9, 1))))
 
     def test_a_goal_that_is_one_number_alone(self):
         book = Book((FLAT,), 1, (), 0)

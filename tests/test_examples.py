@@ -44,8 +44,14 @@ class Examples(unittest.TestCase):
     def test_section_14(self):
         self.examples_hold("section_14.txt", 8)
 
+    def test_section_15(self):
+        self.examples_hold("section_15.txt", 6)
+
+    def test_section_16(self):
+        self.examples_hold("section_16.txt", 6)
+
     def test_readme(self):
-        self.examples_hold(os.path.join(os.pardir, "README.md"), 35)
+        self.examples_hold(os.path.join(os.pardir, "README.md"), 44)
 
 
 if __name__ == "__main__":

@@ -4,6 +4,7 @@ import importlib
 import inspect
 import unittest
 
+from allcoursesfit.benches import Bench
 from allcoursesfit.books import is_motion, is_world
 from allcoursesfit.motions import ahead, behind, between, joined, motion_text, pushes, read_motion, start
 from allcoursesfit.points import ascending, form, halfway, point_text, read_point
@@ -48,11 +49,15 @@ PARAMETERS = {
     "allcoursesfit.asks": {
         "answers": "book ask form", "best_asks": "book asks form", "least_left": "book asks form depth",
         "plan": "book asks form depth", "shows_plan": "book asks form depth value", "worth": "book asks form plan"},
+    "allcoursesfit.pictures": {"course": "book axis places", "picture": "book axis tick places speeds"},
+    "allcoursesfit.journals": {"journal": "bench", "read_journal": "text"},
 }
 
 CLASSES = {
     "allcoursesfit.books": {"Book": "rules last readings wrong"},
     "allcoursesfit.keeping": {"Tracker": "rules last wrong"},
+    "allcoursesfit.benches": {"Bench": "rules last wrong"},
+    "allcoursesfit.desk": {"Desk": "text"},
 }
 
 # For each class its methods, with their parameters, and the attributes that are set on each object.
@@ -60,9 +65,14 @@ METHODS = {
     "Book": {"__eq__": "other"},
     "Tracker": {"put": "reading", "take": "number", "later": "", "fits": "tick", "has": "tick state", "copy": "",
                 "__eq__": "other"},
+    "Bench": {"do": "line", "undo": "", "redo": "", "tried": "look keep", "keep": "", "copy": "", "__len__": "",
+              "__eq__": "other"},
+    "Desk": {"say": "line"},
 }
-ATTRIBUTES = {"Book": "rules last readings wrong sources text", "Tracker": "book numbers work"}
-CREATED = {"Book": ((RULE,), 2, (EXACT,), 1), "Tracker": ((RULE,), 2, 1)}
+ATTRIBUTES = {"Book": "rules last readings wrong sources text", "Tracker": "book numbers work",
+              "Bench": "rules last deeds book", "Desk": "bench"}
+CREATED = {"Book": ((RULE,), 2, (EXACT,), 1), "Tracker": ((RULE,), 2, 1), "Bench": ((RULE,), 2, 1),
+           "Desk": ("rule 0 1 0 0 0 0\nlast 0\nwrong 0\ndeeds",)}
 
 
 class Interface(unittest.TestCase):
@@ -95,6 +105,10 @@ class Interface(unittest.TestCase):
                     self.assertEqual([one.name for one in told], words.split(), (name, method))
                 for attribute in ATTRIBUTES[name].split():
                     self.assertIn(attribute, vars(kind(*CREATED[name])), (name, attribute))
+
+    def test_keep_is_passed_by_name(self):
+        told = inspect.signature(Bench.tried).parameters["keep"]
+        self.assertEqual((told.kind, told.default), (inspect.Parameter.KEYWORD_ONLY, False))
 
     def test_motions_and_readings_by_name(self):
         self.assertEqual(start(rule=FLAT), points((3, 0)))

@@ -367,6 +367,13 @@ class Deeds(Refusals):
             self.assertIs(one == value, False)
             self.assertIs(one != value, True)
             self.assertIs(value == one, False)
+        # Alike books, and the next number, but not the numbers that stand.
+        one, other = Tracker((RULE,), 3, 1), Tracker((RULE,), 3, 1)
+        for number, tracker in enumerate((one, other)):
+            tracker.put(exact("a"))
+            tracker.put(exact("a"))
+            tracker.take(number)
+        self.assertTrue(one.book == other.book and one != other)
         # Alike books and numbers, though they came otherwise.
         one, other = Tracker((RULE,), 2, 1), Tracker((RULE,), 2, 1)
         for tracker, row in ((one, "ab"), (other, "bb")):

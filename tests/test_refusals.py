@@ -1,11 +1,14 @@
-"""Sections 6 to 14: every parameter wrong, by position and by name, alone and with those behind it."""
+"""Sections 6 to 16: every parameter wrong, by position and by name, alone and with those behind it."""
 
 import importlib
 import unittest
 
 from allcoursesfit import errors
+from allcoursesfit.benches import Bench
 from allcoursesfit.books import Book
+from allcoursesfit.desk import Desk
 from allcoursesfit.errors import FitError
+from allcoursesfit.journals import read_journal
 from allcoursesfit.keeping import Tracker
 from tests.test_interface import PARAMETERS
 from tests.wrong import SQUARE, Refusals, nested, points
@@ -28,7 +31,7 @@ TOLD = {
     "right": (("a",), "BadSources"),
     "source": ("b", "NoSource"), "form": ((0, 2, 1, 0), "BadForm"), "ask": ((0, 2, 1, 0, (1, 2)), "BadAsk"),
     "area": ((SQUARE,), "BadArea"), "asks": (((0, 2, 1, 0, (1, 2)),), "BadAsks"), "depth": (2, "BadNumber"),
-    "plan": ((0, None, None), "BadPlan"),
+    "plan": ((0, None, None), "BadPlan"), "places": ((-1, 3), "BadBounds"), "speeds": ((0, 0), "BadBounds"),
 }
 # What stands for None, too, and where the number of a READING is refused by another error.
 NONE_IS_RIGHT = ("plan",)
@@ -36,7 +39,14 @@ NUMBERS = ("kept_world", "barred_world", "word_at", "shows_kept_world", "shows_b
 # Right for no parameter at all.
 EVER_WRONG = (True, False, -1, 99, [], [1], {}, {"a": [1]}, (None,), ((),), ("x",), (True, 1), [(0, 1)], FitError(1),
               nested(list), nested(tuple), nested(dict), [EXACT], list(SLOW), list(SQUARE), [RULE])
-MODULES = ("motions", "readings", "books", "lots", "worlds", "sums", "trees", "sure", "bounds", "asks")
+MODULES = ("motions", "readings", "books", "lots", "worlds", "sums", "trees", "sure", "bounds", "asks", "pictures")
+TEXTS = {
+    "read_motion": ("4 0", "BadLine"), "read_reading": ("ear 0 1 2 -1 -3..3", "BadReading"),
+    "read_book": (BOOK.text, "BadBook"), "read_journal": ("rule 0 1 0 0 0 0\nlast 0\nwrong 0\ndeeds", "BadJournal"),
+    "Desk": ("rule 0 1 0 0 0 0\nlast 0\nwrong 0\ndeeds", "BadJournal"),
+}
+# Whose errors tell the number of a line, 0 for what is no text.
+BY_LINES = ("BadLine", "BadBook", "BadJournal")
 
 
 def calls():
@@ -46,6 +56,9 @@ def calls():
             yield name, getattr(importlib.import_module("allcoursesfit." + module), name), words.split()
     yield "Book", Book, ["rules", "last", "readings", "wrong"]
     yield "Tracker", Tracker, ["rules", "last", "wrong"]
+    yield "Bench", Bench, ["rules", "last", "wrong"]
+    yield "read_journal", read_journal, ["text"]
+    yield "Desk", Desk, ["text"]
 
 
 def told(name, words):
@@ -61,15 +74,14 @@ def told(name, words):
         if name == "summed":
             rights["value"], kinds["value"] = (), "BadSum"
     if "text" in words:
-        rights["text"] = {"read_motion": "4 0", "read_reading": "ear 0 1 2 -1 -3..3", "read_book": BOOK.text}[name]
-        kinds["text"] = {"read_motion": "BadLine", "read_reading": "BadReading", "read_book": "BadBook"}[name]
+        rights["text"], kinds["text"] = TEXTS[name]
     return rights, kinds
 
 
 class EveryParameter(Refusals):
     def look(self, kind, wrong, call, words, values):
         was = repr(values)
-        expected = 0 if kind in ("BadLine", "BadBook") else wrong
+        expected = 0 if kind in BY_LINES else wrong
         for by_name in (False, True):
             with self.assertRaises(errors.FitError) as held:
                 if by_name:
@@ -85,7 +97,8 @@ class EveryParameter(Refusals):
             rights, kinds = told(name, words)
             self.assertEqual(set(rights), set(words), name)
             one = call(*[rights[word] for word in words])
-            self.assertEqual(one, call(**rights), name)
+            if name != "Desk":
+                self.assertEqual(one, call(**rights), name)
             self.assertNotIsInstance(one, (list, dict, set), name)
             if name.startswith(("is_", "shows_", "has", "fulfils", "surely_in", "can_be")):
                 self.assertIs(type(one), bool, name)
@@ -97,7 +110,7 @@ class EveryParameter(Refusals):
             return values + ("x y", "")
         if name not in ("rows", "summed", "refuted", "shows_refuted") or word != "state":
             values = values + (None,)
-        if name not in ("read_motion", "read_book"):
+        if name not in ("read_motion", "read_book", "read_journal", "Desk"):
             values = values + ("x y", "")
         return values
 
