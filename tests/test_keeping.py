@@ -316,7 +316,7 @@ class Deeds(Refusals):
         self.assertEqual(tracker.fits(1), fits(tracker.book, 1))
 
     def test_twenty_four_readings(self):
-        tracker = Tracker((RULE,), 2, 3)
+        tracker = Tracker((RULE,), 12, 3)
         for number, reading in enumerate(TWENTY_FOUR):
             self.assertEqual(tracker.put(reading), number)
         error = self.refusal(tracker.put, exact("a"))
@@ -326,7 +326,9 @@ class Deeds(Refusals):
         self.assertEqual(tracker.put(exact("b")), 24)
         self.assertEqual(tracker.numbers, tuple([number for number in range(25) if number != 7]))
         self.assertEqual(tracker.book.readings, TWENTY_FOUR[:7] + TWENTY_FOUR[8:] + (exact("b"),))
-        self.assertEqual(tracker.fits(1), fits(tracker.book, 1))
+        for tick in (12, 1, 0):
+            self.assertEqual(tracker.fits(tick), fits(tracker.book, tick))
+        self.assertEqual(tracker.work, len(steps_used(tracker.book, 12) | steps_used(tracker.book, 0)))
 
     def test_sources_and_unsure_ones(self):
         tracker = Tracker((RULE,), 3, 0)

@@ -129,6 +129,12 @@ class Pictures(Refusals):
         self.assertEqual(picture(book, 0, 0, (0, 1), (0, 0)), "..")
         self.assertEqual(course(book, 0, (0, 1)), "..")
 
+    def test_more_may_be_wrong_than_there_are(self):
+        for wrong, told in ((0, ".........."), (1, "##....####"), (2, "##########"), (3, "##########")):
+            book = Book(((0, 9, 0, 0, 0, 0),), 0, (exact("a", 0, 0, 0, 1), exact("b", 0, 0, 6, 9)), wrong)
+            self.assertEqual(course(book, 0, (0, 9)), told)
+            self.assertEqual(picture(book, 0, 0, (0, 9), (0, 0)), told.replace("#", "o"))
+
     def test_no_world(self):
         self.assertEqual(picture(NOTHING, 0, 1, (-1, 1), (-2, 1)), "-..\n-..\n-..\n---")
         self.assertEqual(course(NOTHING, 0, (9, 11)), "..-\n..-\n..-")

@@ -78,6 +78,31 @@ def told(name, words):
     return rights, kinds
 
 
+# For the methods: what they are called of, their parameters, each with a value that is right and with the error's name.
+METHODS = (
+    (lambda: Tracker((RULE,), 2, 0).put, (("reading", EXACT, "BadReading"),)),
+    (lambda: Tracker((RULE,), 2, 0).take, (("number", None, "NoReading"),)),
+    (lambda: Tracker((RULE,), 2, 0).fits, (("tick", 1, "BadTick"),)),
+    (lambda: Tracker((RULE,), 2, 0).has, (("tick", 1, "BadTick"), ("state", STATE, "BadState"))),
+    (lambda: Bench((RULE,), 2, 0).do, (("line", "wrong 1", "BadTask"),)),
+    (lambda: Desk(TEXTS["Desk"][0]).say, (("line", "fits", "BadTask"),)),
+)
+
+
+class EveryMethod(Refusals):
+    def test_one_wrong_and_those_behind_it(self):
+        for method, told in METHODS:
+            words = [word for word, right, kind in told]
+            for at, (word, right, kind) in enumerate(told):
+                for wrong in EVER_WRONG + (None, "x y", ""):
+                    for behind in ([other for _, other, _ in told[at + 1:]], [{"a": [None]} for _ in told[at + 1:]]):
+                        values = [other for _, other, _ in told[:at]] + [wrong] + behind
+                        for call in (lambda: method()(*values), lambda: method()(**dict(zip(words, values)))):
+                            error = self.refusal(call)
+                            self.assertEqual(type(error).__name__, kind, (word, wrong))
+                            self.assertIs(error.value, wrong)
+
+
 class EveryParameter(Refusals):
     def look(self, kind, wrong, call, words, values):
         was = repr(values)
